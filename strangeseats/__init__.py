@@ -1,0 +1,1 @@
+"""Strangeseats: machines that remember a few of endless names, in houses that grow together."""

@@ -1,0 +1,150 @@
+"""The form of the package: those rules of LANGUAGE.md that can be looked up in its files."""
+
+import ast
+import builtins
+import pathlib
+import re
+import unittest
+
+PACKAGE = pathlib.Path(__file__).resolve().parent.parent / "strangeseats"
+BUILTINS = set(
+    "len range enumerate zip min max sum abs sorted reversed int str bool bytes list tuple dict set frozenset "
+    "isinstance ord repr any all divmod iter next super property staticmethod classmethod object float Exception "
+    "ValueError TypeError KeyError IndexError LookupError ZeroDivisionError ArithmeticError OverflowError "
+    "RuntimeError NotImplementedError AttributeError StopIteration NotImplemented".split()
+)
+METHODS = set(
+    "append clear copy count endswith extend find get index insert isalnum isalpha isdigit islower isspace isupper "
+    "items join keys ljust lower lstrip partition pop remove replace reverse rfind rjust rpartition rsplit rstrip "
+    "setdefault split splitlines startswith strip update upper values zfill bit_length add discard sort title "
+    "capitalize isascii isdecimal isnumeric removeprefix removesuffix rindex".split()
+)
+BARRED = re.compile(
+    r"\b(type|typing|typing_extensions|enum|Enum|IntEnum|StrEnum|Flag|IntFlag|Generic|Protocol|ABC|ABCMeta|namedtuple"
+    r"|NamedTuple|TypedDict|TYPE_CHECKING|abstractmethod)\b|dataclass|overload|contextmanager"
+)
+BARRED_STATEMENTS = (
+    ast.Global, ast.AsyncFunctionDef, ast.AsyncFor, ast.AsyncWith, ast.Await, ast.Import, ast.TryStar, ast.Div,
+)
+ALLOWED_DUNDERS = {"__init__", "__len__"}
+
+
+def files():
+    return sorted(PACKAGE.glob("*.py"))
+
+
+def tree_of(path):
+    return ast.parse(path.read_text())
+
+
+def nodes(kind):
+    for path in files():
+        for node in ast.walk(tree_of(path)):
+            if isinstance(node, kind):
+                yield path.name, node
+
+
+def methods_and_attributes():
+    methods, attributes = set(), set()
+    for _, made in nodes(ast.ClassDef):
+        methods.update(node.name for node in made.body if isinstance(node, ast.FunctionDef))
+    for _, node in nodes(ast.Attribute):
+        if isinstance(node.ctx, ast.Store):
+            attributes.add(node.attr)
+    return methods, attributes
+
+
+class Files(unittest.TestCase):
+    def test_the_folder_has_plainly_named_files_alone(self):
+        for path in PACKAGE.iterdir():
+            if path.name != "__pycache__":
+                self.assertRegex(path.name, r"^(__init__|__main__|[a-z][a-z0-9_]*)\.py$")
+
+    def test_signs(self):
+        for path in files():
+            text = path.read_text()
+            self.assertRegex(text, r"\A[ -~\n]+\Z", path.name)
+            self.assertIsNone(BARRED.search(text), path.name)
+
+    def test_sizes(self):
+        for path in files():
+            rows = path.read_text().splitlines()
+            self.assertLessEqual(len(rows), 400, path.name)
+            self.assertLessEqual(max(len(row) for row in rows), 120, path.name)
+        for name, node in nodes((ast.FunctionDef, ast.Lambda)):
+            self.assertLessEqual(node.end_lineno - node.lineno + 1, 40, (name, node.lineno))
+
+    def test_imports(self):
+        defined = {}
+        for path in files():
+            made = [node.name for node in tree_of(path).body if isinstance(node, (ast.FunctionDef, ast.ClassDef))]
+            defined["strangeseats." + path.stem] = made + [
+                target.id for node in tree_of(path).body if isinstance(node, ast.Assign) for target in node.targets
+            ]
+        for name, node in nodes(ast.ImportFrom):
+            self.assertEqual(node.level, 0, name)
+            for told in node.names:
+                self.assertIn(told.name, defined.get(node.module, ()), (name, node.lineno))
+
+    def test_no_two_files_import_from_each_other(self):
+        sources = {path.stem: set() for path in files()}
+        for name, node in nodes(ast.ImportFrom):
+            sources[name[:-3]].add(node.module.split(".")[-1])
+        while sources:
+            free = [name for name in sources if not sources[name] & set(sources)]
+            self.assertTrue(free, sources)
+            for name in free:
+                del sources[name]
+
+
+class Rows(unittest.TestCase):
+    def test_statements(self):
+        for name, node in nodes(BARRED_STATEMENTS):
+            self.fail((name, getattr(node, "lineno", None), node))
+
+    def test_module_level(self):
+        allowed = (ast.ImportFrom, ast.FunctionDef, ast.ClassDef, ast.Assign)
+        for path in files():
+            for at, node in enumerate(tree_of(path).body):
+                docstring = at == 0 and isinstance(node, ast.Expr) and isinstance(node.value, ast.Constant)
+                self.assertTrue(docstring or isinstance(node, allowed), (path.name, node.lineno))
+
+    def test_names(self):
+        for name, node in nodes((ast.FunctionDef, ast.ClassDef)):
+            self.assertTrue(not node.name.startswith("_") or node.name in ALLOWED_DUNDERS, (name, node.name))
+        for name, node in nodes((ast.Name, ast.arg)):
+            told = node.id if isinstance(node, ast.Name) else node.arg
+            self.assertFalse(told.startswith("_"), (name, node.lineno))
+            if isinstance(node, ast.arg) or isinstance(node.ctx, ast.Store):
+                self.assertNotIn(told, dir(builtins), (name, node.lineno))
+
+    def test_builtins(self):
+        for name, node in nodes(ast.Name):
+            if node.id in dir(builtins):
+                self.assertIn(node.id, BUILTINS, (name, node.lineno))
+
+    def test_called_methods(self):
+        methods, _ = methods_and_attributes()
+        for name, node in nodes(ast.Call):
+            if isinstance(node.func, ast.Attribute):
+                self.assertIn(node.func.attr, METHODS | methods | {"__init__"}, (name, node.lineno))
+
+    def test_no_name_is_a_method_and_an_attribute(self):
+        methods, attributes = methods_and_attributes()
+        self.assertEqual(methods & attributes, set())
+
+    def test_identity_is_asked_of_constants_alone(self):
+        for name, node in nodes(ast.Compare):
+            for sign, right in zip(node.ops, node.comparators):
+                if isinstance(sign, (ast.Is, ast.IsNot)):
+                    self.assertIsInstance(right, ast.Constant, (name, node.lineno))
+
+    def test_literals(self):
+        for name, node in nodes(ast.Constant):
+            self.assertNotIsInstance(node.value, (float, complex), (name, node.lineno))
+            if isinstance(node.value, str):
+                self.assertNotIn("%", node.value, (name, node.lineno))
+
+
+if __name__ == "__main__":
+    unittest.main()
