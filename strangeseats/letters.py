@@ -1,11 +1,7 @@
 """Letters and histories: what can be read, what was read, and how it goes on plainly."""
 
+from strangeseats.kinds import is_count, is_row
 from strangeseats.worlds import World
-
-
-def is_count(thing):
-    """Whether this is a whole number from 0 on; a truth is none."""
-    return isinstance(thing, int) and not isinstance(thing, bool) and thing >= 0
 
 
 def is_join_in(house, other, world):
@@ -15,7 +11,7 @@ def is_join_in(house, other, world):
 
 def is_letter_in(words, thing, world):
     """Whether anything is a letter of these words in this World."""
-    if not isinstance(thing, tuple) or len(thing) != 3:
+    if not is_row(thing, 3):
         return False
     word, house, other = thing
     if not isinstance(word, str) or not is_count(house) or not is_count(other):

@@ -44,6 +44,31 @@ def nodes(kind):
                 yield path.name, node
 
 
+def parents(tree):
+    return {child: node for node in ast.walk(tree) for child in ast.iter_child_nodes(node)}
+
+
+def called_name(node):
+    """The builtin or own function that a call calls by its name, else None."""
+    return node.func.id if isinstance(node, ast.Call) and isinstance(node.func, ast.Name) else None
+
+
+def is_join_of_literal(node):
+    return (
+        isinstance(node, ast.Call) and isinstance(node.func, ast.Attribute) and node.func.attr == "join"
+        and isinstance(node.func.value, ast.Constant)
+    )
+
+
+def nodes_with_parents(kind):
+    for path in files():
+        tree = tree_of(path)
+        above = parents(tree)
+        for node in ast.walk(tree):
+            if isinstance(node, kind):
+                yield path.name, node, above
+
+
 def methods_and_attributes():
     methods, attributes = set(), set()
     for _, made in nodes(ast.ClassDef):
@@ -138,6 +163,98 @@ class Rows(unittest.TestCase):
             for sign, right in zip(node.ops, node.comparators):
                 if isinstance(sign, (ast.Is, ast.IsNot)):
                     self.assertIsInstance(right, ast.Constant, (name, node.lineno))
+
+    def test_no_local_name_is_that_of_an_import_or_a_class(self):
+        for path in files():
+            tree = tree_of(path)
+            barred = {told.asname or told.name for node in tree.body if isinstance(node, ast.ImportFrom) for told in node.names}
+            barred |= {node.name for node in tree.body if isinstance(node, ast.ClassDef)}
+            for node in ast.walk(tree):
+                if isinstance(node, ast.arg):
+                    self.assertNotIn(node.arg, barred, (path.name, node.lineno))
+                if isinstance(node, ast.Name) and isinstance(node.ctx, ast.Store):
+                    self.assertNotIn(node.id, barred, (path.name, node.lineno))
+
+    def test_no_local_name_is_that_of_a_function_of_its_file(self):
+        for path in files():
+            tree = tree_of(path)
+            made = {node.name for node in tree.body if isinstance(node, ast.FunctionDef)}
+            for node in ast.walk(tree):
+                if isinstance(node, ast.arg):
+                    self.assertNotIn(node.arg, made, (path.name, node.lineno))
+                if isinstance(node, ast.Name) and isinstance(node.ctx, ast.Store):
+                    self.assertNotIn(node.id, made, (path.name, node.lineno))
+
+    def test_all_that_is_imported_is_used(self):
+        for path in files():
+            tree = tree_of(path)
+            used = {node.id for node in ast.walk(tree) if isinstance(node, ast.Name)}
+            for node in tree.body:
+                if isinstance(node, ast.ImportFrom):
+                    for told in node.names:
+                        self.assertIn(told.name, used, path.name)
+
+    def test_attributes_read_are_assigned_by_some_class(self):
+        methods, attributes = methods_and_attributes()
+        for name, node, above in nodes_with_parents(ast.Attribute):
+            called = isinstance(above[node], ast.Call) and above[node].func is node
+            if isinstance(node.ctx, ast.Load) and not called:
+                self.assertIn(node.attr, attributes, (name, node.lineno))
+
+    def test_what_is_iterated_at_once(self):
+        takers = {"list", "tuple", "dict", "sorted", "sum", "any", "all", "enumerate", "zip", "min", "max"}
+        for name, node, above in nodes_with_parents(ast.Call):
+            told = called_name(node) or (node.func.attr if isinstance(node.func, ast.Attribute) and not node.args else "")
+            if told in {"zip", "enumerate", "reversed", "range", "items", "keys", "values"}:
+                parent = above[node]
+                iterated = isinstance(parent, (ast.For, ast.comprehension)) and parent.iter is node
+                taken = called_name(parent) in takers or is_join_of_literal(parent)
+                asked = told == "range" and isinstance(parent, ast.Compare)
+                self.assertTrue(iterated or taken or asked, (name, node.lineno))
+
+    def test_generator_expressions(self):
+        takers = {"list", "tuple", "dict", "sorted", "sum", "any", "all", "min", "max"}
+        for name, node, above in nodes_with_parents(ast.GeneratorExp):
+            self.assertTrue(called_name(above[node]) in takers or is_join_of_literal(above[node]), (name, node.lineno))
+        self.assertEqual(list(nodes((ast.Yield, ast.YieldFrom))), [])
+
+    def test_sets_stand_in_len_and_sorted_or_are_compared(self):
+        for name, node, above in nodes_with_parents((ast.Set, ast.SetComp, ast.Call)):
+            if not isinstance(node, ast.Call) or called_name(node) in {"set", "frozenset"}:
+                parent = above[node]
+                self.assertTrue(
+                    called_name(parent) in {"len", "sorted"} or isinstance(parent, ast.Compare), (name, node.lineno)
+                )
+
+    def test_errors_are_made_where_they_are_raised_and_caught_by_name(self):
+        made = {node.name for name, node in nodes(ast.ClassDef) if name == "errors.py"}
+        for name, node in nodes(ast.Raise):
+            self.assertTrue(node.exc is None or called_name(node.exc) in made, (name, node.lineno))
+        for name, node in nodes(ast.ExceptHandler):
+            self.assertIsInstance(node.type, ast.Name, (name, node.lineno))
+            self.assertIn(node.type.id, made, (name, node.lineno))
+
+    def test_nothing_that_a_loop_goes_through_is_changed_in_it(self):
+        changing = {"append", "clear", "extend", "insert", "pop", "remove", "reverse", "setdefault", "update", "sort"}
+        for name, node in nodes(ast.For):
+            through = ast.dump(node.iter)
+            for part in [part for row in node.body for part in ast.walk(row)]:
+                if isinstance(part, ast.Call) and isinstance(part.func, ast.Attribute) and part.func.attr in changing:
+                    self.assertNotEqual(ast.dump(part.func.value), through, (name, node.lineno))
+
+    def test_keywords_of_builtins(self):
+        allowed = {"sorted": {"key", "reverse"}, "min": {"key", "default"}, "max": {"key", "default"}}
+        for name, node in nodes(ast.Call):
+            told = called_name(node)
+            if told in dir(builtins):
+                for keyword in node.keywords:
+                    self.assertIn(keyword.arg, allowed.get(told, set()), (name, node.lineno))
+
+    def test_no_decorators_and_no_places_alone(self):
+        for name, node in nodes((ast.FunctionDef, ast.ClassDef)):
+            self.assertEqual(node.decorator_list, [], (name, node.lineno))
+        for name, node in nodes(ast.arguments):
+            self.assertEqual(node.posonlyargs, [], name)
 
     def test_literals(self):
         for name, node in nodes(ast.Constant):

@@ -2,25 +2,11 @@
 
 import unittest
 
+from makers import Odd, deep
 from strangeseats.letters import houses_in, is_history, is_letter, names_in
 from strangeseats.worlds import World
 
 WORDS = ("a", "bring", "zz")
-
-
-def deep(thing, levels):
-    for _ in range(levels):
-        thing = (thing,)
-    return thing
-
-
-class Odd:
-    """An object that can be compared with nothing."""
-
-    def __eq__(self, other):
-        raise AssertionError("compared")
-
-
 NO_TUPLES_OF_THREE = (
     None, True, False, 0, 1, -1, "", "a", "a00", "abc", b"a00", "join", [], ["a", 0, 0], {}, {"a": 0, 0: 0, 1: 1},
     {"a", 0, 1}, frozenset(["a", 0, 1]), (), ("a",), ("a", 0), ("a", 0, 0, 0), ("join", 0), ("join", 0, 1, 2),

@@ -3,14 +3,8 @@
 import random
 import unittest
 
+from makers import WORDS, renumbered, some_history, world_behind
 from strangeseats.letters import houses_in, is_history, names_in, nexts, plain
-from strangeseats.worlds import World
-
-WORDS = ("a", "k", "zz")
-
-
-def world_behind(history):
-    return World(tuple(letter[1:] for letter in history if letter[0] == "join"))
 
 
 def read_of_house(history, world, house):
@@ -48,34 +42,6 @@ def slow_plain(history):
         else:
             called = new_house(house)
             out += ((word, called, len([name for name in names_in(out) if name[0] == called])),)
-    return out
-
-
-def some_history(chance, many, most=6, words=WORDS):
-    """A history of that many letters, with numbers below most where joins leave enough."""
-    history = ()
-    for _ in range(many):
-        world = world_behind(history)
-        called = [house for house in range(most) if world.called(house) == house]
-        if len(called) > 1 and chance.randrange(4) == 0:
-            letter = ("join",) + tuple(sorted(chance.sample(called, 2)))
-        else:
-            letter = (chance.choice(words), chance.randrange(most), chance.randrange(3))
-        history += (letter,)
-    return history
-
-
-def renumbered(history, chance):
-    """A like history: all houses have other numbers, all seats others."""
-    shuffled = list(range(500))
-    chance.shuffle(shuffled)
-    out = ()
-    for word, house, other in history:
-        if word == "join":
-            world = world_behind(out)
-            out += (("join",) + tuple(sorted((world.called(shuffled[house]), world.called(shuffled[other])))),)
-        else:
-            out += ((word, shuffled[house], shuffled[other + 10 * house]),)
     return out
 
 
