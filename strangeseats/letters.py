@@ -116,29 +116,35 @@ def plain(history):
     return tuple(letters)
 
 
-def next_names(history, called, fresh):
-    """The names with which a plain history goes on: those read, and of each house the next."""
-    names = list(names_in(history))
-    seats_taken = {}
+def next_names(names, called, fresh):
+    """The names with which it goes on plainly behind these: they themselves, and of each house the next."""
+    next_seats = {}
     for house, seat in names:
-        seats_taken[house] = seats_taken.get(house, 0) + 1
-    return names + [(house, seats_taken.get(house, 0)) for house in called + [fresh]]
+        next_seats[house] = max(next_seats.get(house, 0), seat + 1)
+    return names + [(house, next_seats.get(house, 0)) for house in called + [fresh]]
 
 
 def next_joins(called, fresh):
-    """The joins with which a plain history goes on: of houses read, of one, and of none."""
+    """The joins with which it goes on plainly: of houses read, of one, and of none."""
     houses = called + [fresh]
     pairs = [(house, other) for house in houses for other in houses if house < other]
     return pairs + [(fresh, fresh + 1)]
+
+
+def letters_on(words, names, called, fresh):
+    """The rising list of the letters that go on plainly where these names were read, and houses called so.
+
+    fresh is the next number of a house.
+    """
+    letters = [("join", house, other) for house, other in next_joins(called, fresh)]
+    for house, seat in next_names(names, called, fresh):
+        letters.extend([(word, house, seat) for word in words])
+    return sorted(letters)
 
 
 def nexts(words, history):
     """The rising tuple of the letters with which a plain history goes on to a plain one."""
     world = World(joins_in(history))
     numbers = houses_in(history)
-    fresh = len(numbers)
     called = [number for number in numbers if world.called(number) == number]
-    letters = [("join", house, other) for house, other in next_joins(called, fresh)]
-    for house, seat in next_names(history, called, fresh):
-        letters.extend([(word, house, seat) for word in words])
-    return tuple(sorted(letters))
+    return tuple(letters_on(words, list(names_in(history)), called, len(numbers)))

@@ -152,3 +152,15 @@ def answers(machine, letters, *, stand=0, filling=(), joins=()):
     for letter in letters:
         talker.read(letter)
     return talker.said()
+
+
+def parts_at_last(talker, other, thing):
+    """Whether anything is a talk of which two Talkers in one World answer just the last letter unlike."""
+    if not isinstance(thing, tuple):
+        return False
+    parted = False
+    for letter in thing:
+        if parted or not is_letter_in(talker.machine[0], letter, talker.ground):
+            return False
+        parted = talker.read(letter) != other.read(letter)
+    return parted

@@ -220,3 +220,154 @@ class SlowTalker:
             (self.told(self.holds[(at,)])[0], tuple(self.holds[(at, seat)] for seat in range(many)))
             for at, many in enumerate(frame)
         )
+
+
+class Copy:
+    """A stand made after another: new pocket by new pocket the old one, or None for one put in for nothing.
+
+    houses is a list of (old house pocket or None, list of old seat pockets or None).
+    """
+
+    def __init__(self, old, houses):
+        self.old, self.houses = old, houses
+        self.frame = tuple(len(seats) for _, seats in houses)
+
+    def vain(self):
+        rows = []
+        for at, (house, seats) in enumerate(self.houses):
+            rows += [(at,)] if house is None else []
+            rows += [(at, seat) for seat, old in enumerate(seats) if house is None or old is None]
+        return tuple(sorted(rows))
+
+    def core_match(self):
+        """The match of the new frame and the old one by how it was made."""
+        rows = []
+        for at, (house, seats) in enumerate(self.houses):
+            if house is not None:
+                pairs = [(seat, old) for seat, old in enumerate(seats) if old is not None]
+                rows.append((at, house, tuple(pairs)))
+        return tuple(rows)
+
+    def old_case(self, line):
+        word, (first, second) = line
+        if word == "join":
+            pockets = [self.houses[at][0] for at in (first, second) if at >= 0]
+            held = sorted(pocket for pocket in pockets if pocket is not None)
+            return tuple([-1] * (2 - len(held)) + held)
+        if first == -1 or self.houses[first][0] is None:
+            return (-1, -1)
+        house, seats = self.houses[first]
+        return (house, seats[second] if second >= 0 and seats[second] is not None else -1)
+
+    def new_names(self, line):
+        """A dict of the old things at a line, each with what it is called in the new stand."""
+        word, case = line
+        old = self.old_case(line)
+        names = {}
+        for at, house, pairs in self.core_match():
+            names[(house,)] = (at,)
+            names.update({(house, other): (at, seat) for seat, other in pairs})
+        if word == "join":
+            grown = (case[0] if case[0] >= 0 else case[1],)
+            for pocket in old:
+                names[(pocket,)] = grown
+        else:
+            names[old] = case
+            names[(old[0],)] = (case[0],)
+        return names
+
+
+def plain_copy(machine, old):
+    return Copy(old, [(at, list(range(many))) for at, many in enumerate(machine[1][old][0])])
+
+
+def some_copy(chance, machine, old, vain):
+    """A stand made after that old one, its pockets in some order, with others for nothing where vain."""
+    houses = []
+    for at, many in enumerate(machine[1][old][0]):
+        seats = list(range(many))
+        while vain and len(seats) < 2 and chance.randrange(2):
+            seats.append(None)
+        chance.shuffle(seats)
+        houses.append((at, seats))
+    while vain and len(houses) < 2 and chance.randrange(2):
+        houses.append((None, [None] * chance.randrange(3)))
+    chance.shuffle(houses)
+    return Copy(old, houses)
+
+
+def fill_of_copy(chance, copy, line, fill, goal):
+    """The fill of a goal's copy, what was put in for nothing filled with what is left; None where nothing is."""
+    names = copy.new_names(line)
+    there = slow_houses(copy.frame, line)
+    taken = {names[fill[house][0]] for house, _ in goal.houses if house is not None}
+    rows = []
+    for house, seats in goal.houses:
+        if house is None:
+            free = sorted(set(there) - taken)
+            if not free:
+                return None
+            thing = chance.choice(free)
+            taken.add(thing)
+            below = {}
+        else:
+            thing = names[fill[house][0]]
+            below = {seat: names[fill[house][1][old]] for seat, old in enumerate(seats) if old is not None}
+        left = [other for other in there[thing] if other not in below.values()]
+        chance.shuffle(left)
+        if len(left) < len(seats) - len(below):
+            return None
+        rows.append((thing, tuple(below[seat] if seat in below else left.pop() for seat in range(len(seats)))))
+    return tuple(rows)
+
+
+def copied(chance, machine, copies):
+    """The machine of these copies, alike with its own by its making; each stand needs a copy without vain pockets."""
+    words, stands = machine
+    new_stands = []
+    for copy in copies:
+        rules = []
+        for line in slow_lines(words, copy.frame):
+            old_frame, old_rules = stands[copy.old]
+            goal, fill, saying = old_rules[slow_lines(words, old_frame).index((line[0], copy.old_case(line)))]
+            choices = {}
+            for at, other in enumerate(copies):
+                made = fill_of_copy(chance, copy, line, fill, other) if other.old == goal else None
+                if made is not None:
+                    choices[at] = made
+            at = chance.choice(sorted(choices))
+            names = copy.new_names(line)
+            rules.append((at, choices[at], (saying[0],) + tuple(names[thing] for thing in saying[1:])))
+        new_stands.append((copy.frame, tuple(rules)))
+    return (words, tuple(new_stands))
+
+
+def some_copies(chance, machine, more, vain=True):
+    """Copies of all stands, the first one first, and that many more."""
+    many = len(machine[1])
+    first = [some_copy(chance, machine, old, False) for old in range(many)]
+    rest = first[1:] + [some_copy(chance, machine, chance.randrange(many), vain) for _ in range(more)]
+    chance.shuffle(rest)
+    return first[:1] + rest
+
+
+def marked_otherwise(chance, machine, stand):
+    """This machine with another mark in one rule of that stand."""
+    words, stands = machine
+    frame, rules = stands[stand]
+    at = chance.randrange(len(rules))
+    goal, fill, saying = rules[at]
+    row = (goal, fill, ("otherly",) + saying[1:])
+    return (words, stands[:stand] + ((frame, rules[:at] + (row,) + rules[at + 1:]),) + stands[stand + 1:])
+
+
+def keeping_machine(chance, words, frames, marks=("x", "y")):
+    """A machine whose rules go on to where much is held, more often than by chance alone."""
+    stands = []
+    for frame in frames:
+        rules = []
+        for line in slow_lines(words, frame):
+            rows = [some_rule(chance, frame, line, frames, marks) for _ in range(4)]
+            rules.append(max(rows, key=lambda row: sum(1 + len(seats) for _, seats in row[1])))
+        stands.append((frame, tuple(rules)))
+    return (words, tuple(stands))
