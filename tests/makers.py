@@ -371,3 +371,17 @@ def keeping_machine(chance, words, frames, marks=("x", "y")):
             rules.append(max(rows, key=lambda row: sum(1 + len(seats) for _, seats in row[1])))
         stands.append((frame, tuple(rules)))
     return (words, tuple(stands))
+
+
+def things_of(frame):
+    return sorted([(at,) for at in range(len(frame))] + [(at, k) for at, many in enumerate(frame) for k in range(many)])
+
+
+def holder(frame, sayings):
+    """One stand that begins, and one that keeps all; sayings by line are said there, else x."""
+    keep = tuple(((at,), tuple((at, k) for k in range(many))) for at, many in enumerate(frame))
+    rules = []
+    for line in slow_lines(("a",), frame):
+        both = line == ("join", (0, 1))
+        rules.append((0, (), ("y",)) if both else (1, keep, sayings.get(line, ("x",))))
+    return (("a",), (((), ((0, (), ("x",)),) * 2), (frame, tuple(rules))))

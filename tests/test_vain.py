@@ -3,13 +3,9 @@
 import random
 import unittest
 
-from makers import SlowTalker, copied, keeping_machine, slow_lines, some_copies, some_frames, some_history
+from makers import SlowTalker, copied, holder, keeping_machine, some_copies, some_frames, some_history, things_of
 from strangeseats.alike import alike_from, shows_alike, shows_parted
 from strangeseats.vain import core, in_vain, vain_paper
-
-
-def things_of(frame):
-    return sorted([(at,) for at in range(len(frame))] + [(at, k) for at, many in enumerate(frame) for k in range(many)])
 
 
 def match_of(frame, things):
@@ -23,16 +19,6 @@ def match_of(frame, things):
 def all_but(frame, thing):
     kept = [other for other in things_of(frame) if other != thing and not (len(thing) == 1 and other[0] == thing[0])]
     return match_of(frame, kept)
-
-
-def holder(frame, sayings):
-    """One stand that begins, and one that keeps all; sayings by line are said there, else x."""
-    keep = tuple(((at,), tuple((at, k) for k in range(many))) for at, many in enumerate(frame))
-    rules = []
-    for line in slow_lines(("a",), frame):
-        both = line == ("join", (0, 1))
-        rules.append((0, (), ("y",)) if both else (1, keep, sayings.get(line, ("x",))))
-    return (("a",), (((), ((0, (), ("x",)),) * 2), (frame, tuple(rules))))
 
 
 class Vain(unittest.TestCase):
