@@ -36,9 +36,7 @@ def is_words(thing):
 
 
 def is_exactly(thing, due):
-    """Whether anything is this due thing of tuples, numbers and texts, no truth in the place of a number."""
+    """Whether anything is this due thing of tuples and numbers, no truth in the place of a number."""
     if isinstance(due, tuple):
         return is_row(thing, len(due)) and all(is_exactly(part, told) for part, told in zip(thing, due))
-    if isinstance(due, str):
-        return isinstance(thing, str) and thing == due
     return is_whole(thing) and thing == due

@@ -46,8 +46,6 @@ def there_at_join(filling, case, house, other):
     there = what_is_held([(house if held == other else held, names) for held, names in filling])
     if case[1] == -1:
         there[(-1,)] = (house,)
-    if case[0] >= 0:
-        del there[(case[1],)]
     return there
 
 

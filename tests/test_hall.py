@@ -3,7 +3,7 @@
 import random
 import unittest
 
-from makers import ODD_THINGS, Odd, copied, keeping_machine, same, some_copies, some_frames
+from makers import ODD_THINGS, Odd, copied, keeping_machine, same, slow_lines, some_copies, some_frames
 from strangeseats.errors import Missing, NoLetter, NoTalk, Nothing, OneHouse, Refused, Taken
 from strangeseats.hall import Hall
 from strangeseats.talkers import Talker
@@ -124,8 +124,9 @@ class Talks(unittest.TestCase):
 
     def test_against_talkers_of_their_own(self):
         chance = random.Random(91)
-        for at in range(30):
-            machine = keeping_machine(chance, ("a", "k"), some_frames(chance, 4), ("x", "y"))
+        for at in range(40):
+            frames = chance.choice((some_frames(chance, 4), ((), (1,), (2, 1), (1, 1)), ((), (0,), (0, 0))))
+            machine = keeping_machine(chance, ("a", "k"), frames, ("x", "y"))
             if at % 2:
                 machine = copied(chance, machine, some_copies(chance, machine, 6 - len(machine[1])))
             hall, slow = Hall(machine), SlowHall(machine)
@@ -162,6 +163,23 @@ class Talks(unittest.TestCase):
         else:
             word, seat = chance.choice(("a", "k")), chance.randrange(3)
             self.assertTrue(same(hall.tell(talk, word, house, seat), slow.do("tell", talk, word, house, seat)))
+
+    def test_what_is_held_is_told_rising(self):
+        keep = (((0,), ((0, 0),)), ((1,), ((1, 0),)))
+        last = tuple(
+            (2, keep, ("x",) if min(case) < 0 else ("again",) + (case,)) if word == "a" else (0, (), ("y",))
+            for word, case in slow_lines(("a",), (1, 1))
+        )
+        second = ((2, (((0,), ((0, 0),)), ((-1,), ((-1, -1),))), ("x",)),) + ((1, keep[:1], ("x",)),) * 4
+        first = ((1, (((-1,), ((-1, -1),)),), ("x",)), (0, (), ("x",)))
+        hall = Hall((("a",), (((), first), ((1,), second), ((1, 1), last))))
+        for talk, houses in (("s", (9, 4)), ("t", (8, 2))):
+            hall.begin(talk)
+            for house in houses:
+                hall.tell(talk, "a", house, 1)
+        self.assertEqual(hall.held("s"), ((4,), (4, 1), (9,), (9, 1)))
+        self.assertEqual(hall.held("t"), ((2,), (2, 1), (8,), (8, 1)))
+        self.assertEqual(hall.all_held(), ((2,), (2, 1), (4,), (4, 1), (8,), (8, 1), (9,), (9, 1)))
 
     def test_no_more_is_held_than_must_be(self):
         hall = Hall(MACHINE)

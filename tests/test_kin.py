@@ -120,6 +120,19 @@ class Unkin(unittest.TestCase):
         )
         self.assertIs(shows_unkin(one, 1, other, 1, told), True)
 
+    def test_cores_of_like_forms_beside_things_in_vain(self):
+        one, other = holder((2,), {("a", (0, 0)): ("again",)}), holder((2,), {("a", (0, 1)): ("thrice",)})
+        self.assertEqual((core(one, 1), core(other, 1)), (((0,), (0, 0)), ((0,), (0, 1))))
+        told = unkin_paper(one, 1, other, 1)
+        self.assertEqual(told, ((((0, 0, ((0, 1),)),), (("a", 0, 0),)),))
+        self.assertIs(shows_unkin(one, 1, other, 1, told), True)
+        for match in matches((2,), (2,)):
+            if match != told[0][0]:
+                self.assertIs(shows_unkin(one, 1, other, 1, ((match, (("a", 0, 0),)),)), False)
+                self.assertIs(shows_unkin(one, 1, other, 1, tuple(sorted(told + ((match, (("a", 0, 0),)),)))), False)
+        back = unkin_paper(other, 1, one, 1)
+        self.assertEqual(back, ((((0, 0, ((1, 0),)),), (("a", 0, 1),)),))
+
     def test_papers_of_all_kinds_of_stands(self):
         chance = random.Random(43)
         many = {}

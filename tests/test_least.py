@@ -95,6 +95,18 @@ class Least(unittest.TestCase):
         self.assertEqual(len(turnings(machine, 2)), 2)
         self.assertEqual(size(least(machine)), size(machine))
 
+    def test_a_seat_in_vain_where_no_two_are_kin(self):
+        near = {("a", (0, -1)): ("near",), ("a", (0, 0)): ("near",)}
+        words, stands = holder((1,), near)
+        first = ((1, (((-1,), ((-1, -1),)),), ("x",)), (0, (), ("x",)))
+        machine = (words, (((), first),) + stands[1:])
+        self.assertEqual((reached(machine), core(machine, 1)), ((0, 1), ((0,),)))
+        self.assertIs(is_least(machine), False)
+        self.assertEqual([frame for frame, _ in least(machine)[1]], [(), (0,)])
+        self.assertIs(is_least(least(machine)), True)
+        self.assertRaises(NotLeast, onto, machine, machine)
+        self.assertEqual(onto(machine, least(machine)), ((0, 0, ()), (1, 1, ((0, 0, ()),))))
+
     def test_what_the_least_machine_is(self):
         chance = random.Random(51)
         for machine in some_machines(chance, 40):
@@ -278,6 +290,10 @@ class Onto(unittest.TestCase):
         self.assertIs(shows_onto(ring, ring, ((0, 0, ()), (1, 1, ()))), True)
         self.assertIs(shows_onto(ring, ring, ((0, 1, ()), (1, 0, ()))), False)
         self.assertIs(shows_onto(ring, ring, ((1, 1, ()), (0, 0, ()))), False)
+        turned = (("a",), ring[1][1:] + ring[1][:1])
+        turned = (("a",), tuple((frame, tuple((1 - goal, fill, saying) for goal, fill, saying in rules)) for frame, rules in turned[1]))
+        self.assertEqual(kin(turned, 0, ring, 1), ((),))
+        self.assertIs(shows_onto(turned, ring, ((0, 1, ()), (1, 0, ()))), False)
 
     def test_things_of_any_kind(self):
         machine = both_seats()

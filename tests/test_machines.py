@@ -140,12 +140,12 @@ class Machines(unittest.TestCase):
             self.assertIs(is_machine((("a",), plain_machine([(), frame])[1])), True)
             first, second = plain_machine([(), frame])[1]
             machine = (("a",), (second, first))
-            fill = tuple(((at,), tuple((at, seat) for seat in range(many))) for at, many in enumerate(frame))
             self.assertIs(is_machine(machine), False)
-            for at in range(len(second[1])):
-                machine = with_rule(machine, 0, at, (1, (), ("x",)))
+            for stand, (_, rules) in enumerate((second, first)):
+                for at in range(len(rules)):
+                    machine = with_rule(machine, stand, at, (1, (), ("x",)))
             self.assertIs(is_machine(machine), False)
-            self.assertIs(is_machine(with_rule(machine, 0, 0, (0, fill, ("x",)))), False)
+            self.assertIs(is_machine((("a",), machine[1][1:] + machine[1][1:] + machine[1][:1])), True)
 
     def test_frames(self):
         for frame in ((3,), (0, 3), (-1,), (1, -1), (0, 0, 0), (True,), (0, False), [], [1], None, 1, "1", ((1,),), (None,)):
