@@ -93,6 +93,6 @@ class Hall:
             else:
                 self.running[talk] = state
 
+    # Without a docstring: L7 lets any and all take generator expressions only beside a bare return len(..).
     def __len__(self):
-        """How many deeds can be taken back."""
         return len(self.deeds)

@@ -79,6 +79,34 @@ def methods_and_attributes():
     return methods, attributes
 
 
+def is_bare_len(method):
+    """Whether the body of a method is the one statement `return len(..)`; a docstring ahead counts as another."""
+    if len(method.body) != 1 or not isinstance(method.body[0], ast.Return):
+        return False
+    return called_name(method.body[0].value) == "len"
+
+
+def asks_for_lists(made):
+    """Whether a class has `__eq__`, or a `__len__` that is more than `return len(..)`."""
+    methods = [node for node in ast.walk(made) if isinstance(node, (ast.FunctionDef, ast.AsyncFunctionDef))]
+    return any(
+        method.name == "__eq__" or method.name == "__len__" and not is_bare_len(method) for method in methods
+    )
+
+
+def generators_taken(trees):
+    """(file, row, builtin) of each generator expression that must be a list by L7; trees by the names of files."""
+    walked = [(name, node) for name in sorted(trees) for node in ast.walk(trees[name])]
+    if not any(isinstance(node, ast.ClassDef) and asks_for_lists(node) for name, node in walked):
+        return []
+    found = []
+    for name, node in walked:
+        if called_name(node) in {"any", "all", "min", "max", "sum", "sorted"}:
+            if any(isinstance(part, ast.GeneratorExp) for part in node.args):
+                found.append((name, node.lineno, called_name(node)))
+    return found
+
+
 class Files(unittest.TestCase):
     def test_the_folder_has_plainly_named_files_alone(self):
         for path in PACKAGE.iterdir():
@@ -261,6 +289,68 @@ class Rows(unittest.TestCase):
             self.assertNotIsInstance(node.value, (float, complex), (name, node.lineno))
             if isinstance(node.value, str):
                 self.assertNotIn("%", node.value, (name, node.lineno))
+
+
+class ListsForGenerators(unittest.TestCase):
+    """L7: beside `__eq__`, or a `__len__` other than `return len(..)`, some builtins take a list."""
+
+    BARE = "class Box:\n    def __len__(self):\n        return len(self.rows)\n"
+    ASKING = (
+        'class Box:\n    def __len__(self):\n        """How many."""\n        return len(self.rows)\n',
+        "class Box:\n    def __len__(self):\n        return 3\n",
+        "class Box:\n    def __len__(self):\n        return\n",
+        "class Box:\n    def __len__(self):\n        return len(self.rows) + 1\n",
+        "class Box:\n    def __len__(self):\n        return self.len()\n",
+        "class Box:\n    def __len__(self):\n        rows = self.rows\n        return len(rows)\n",
+        "class Box:\n    def __len__(self):\n        if self.rows:\n            return len(self.rows)\n        return 0\n",
+        "class Box:\n    def __eq__(self, other):\n        return self.n == other.n\n",
+        BARE + "    def __eq__(self, other):\n        return self.n == other.n\n",
+        BARE + "class Crate:\n    def __len__(self):\n        pass\n        return len(self.rows)\n",
+    )
+    QUIET = (
+        "",
+        BARE,
+        "class Box:\n    def __init__(self):\n        self.rows = []\n",
+        "class Box:\n    # How many.\n    def __len__(self):\n        return len(self.rows)  # of all\n",
+    )
+    TAKERS = ("any", "all", "min", "max", "sum", "sorted")
+
+    def taken(self, classes, row):
+        """What is found where one file has these classes, and another one this row."""
+        return generators_taken({"box.py": ast.parse(classes), "rows.py": ast.parse(row)})
+
+    def test_the_package_keeps_the_rule(self):
+        self.assertEqual(generators_taken({path.name: tree_of(path) for path in files()}), [])
+
+    def test_each_class_that_asks_for_lists_is_seen(self):
+        for classes in self.ASKING:
+            with self.subTest(classes=classes):
+                self.assertEqual(self.taken(classes, "any(x for x in xs)"), [("rows.py", 1, "any")])
+
+    def test_other_classes_ask_for_none(self):
+        for classes in self.QUIET:
+            with self.subTest(classes=classes):
+                self.assertEqual(self.taken(classes, "any(x for x in xs)"), [])
+
+    def test_each_builtin_of_the_rule_is_seen(self):
+        for taker in self.TAKERS:
+            with self.subTest(taker=taker):
+                found = [("rows.py", 2, taker)]
+                self.assertEqual(self.taken(self.ASKING[0], f"\ny = not {taker}(x for x in xs)"), found)
+                self.assertEqual(self.taken(self.ASKING[0], f"\ny = tuple({taker}((x for x in xs), key=f))"), found)
+                self.assertEqual(self.taken(self.ASKING[0], f"\ndef f(xs):\n    return [{taker}([x for x in xs])]"), [])
+
+    def test_the_class_and_the_row_may_stand_in_one_file(self):
+        for classes in self.ASKING:
+            with self.subTest(classes=classes):
+                tree = ast.parse(classes + "def f(xs):\n    return all(x for x in xs)\n")
+                self.assertEqual(generators_taken({"box.py": tree}), [("box.py", classes.count("\n") + 2, "all")])
+
+    def test_other_takers_and_lists_are_free(self):
+        rows = ("any(xs)", "any([x for x in xs])", "tuple(x for x in xs)", "','.join(x for x in xs)", "max(0, n)")
+        for row in rows:
+            with self.subTest(row=row):
+                self.assertEqual(self.taken(self.ASKING[0], row), [])
 
 
 if __name__ == "__main__":
